@@ -7,7 +7,13 @@ import (
 )
 
 // Foreman stands between connections and workers.
-type Foreman struct{}
+type Foreman struct {
+	settings    api.Config
+	time        int
+	connections [api.MaxConns]connection
+	requests    []request // those that wait stand in the backlog's order
+	slots       [api.MaxSlots]place
+}
 
 // Encode writes a record as bytes (P3).
 func Encode(r api.Record) (string, api.Errno) { return record.Encode(r) }
@@ -16,16 +22,50 @@ func Encode(r api.Record) (string, api.Errno) { return record.Encode(r) }
 func Decode(s string) ([]api.Record, int, api.Errno) { return record.Decode(s) }
 
 // New makes a foreman (P5).
-func New(c api.Config) (*Foreman, api.Errno) { return nil, api.OK }
+func New(c api.Config) (*Foreman, api.Errno) {
+	if !mayBe(c) {
+		return nil, api.ErrConfig
+	}
+	f := &Foreman{settings: c}
+	for i := range f.slots {
+		f.slots[i] = newPlace(api.Empty)
+	}
+	f.settle()
+	return f, api.OK
+}
 
 // Connect opens a connection (P5).
-func (f *Foreman) Connect(conn int) api.Errno { return api.OK }
+func (f *Foreman) Connect(conn int) api.Errno {
+	if !isConnection(conn) {
+		return api.ErrConn
+	}
+	if f.connections[conn].open {
+		return api.ErrOpen
+	}
+	f.connections[conn] = connection{open: true}
+	return api.OK
+}
 
 // Hangup closes a connection (P5).
-func (f *Foreman) Hangup(conn int) api.Errno { return api.OK }
+func (f *Foreman) Hangup(conn int) api.Errno {
+	err := f.checkOpen(conn)
+	if err != api.OK {
+		return err
+	}
+	f.close(conn)
+	return api.OK
+}
 
 // Feed tells what has come over a connection (P6, P7).
-func (f *Foreman) Feed(conn int, s string) api.Errno { return api.OK }
+func (f *Foreman) Feed(conn int, s string) api.Errno {
+	err := f.checkOpen(conn)
+	if err != api.OK {
+		return err
+	}
+	all := f.connections[conn].rest + s
+	f.takeAll(conn, all)
+	return api.OK
+}
 
 // Spawned tells that a worker has started (P8).
 func (f *Foreman) Spawned(slot int) api.Errno { return api.OK }
@@ -46,19 +86,47 @@ func (f *Foreman) Tick() {}
 func (f *Foreman) Reload(c api.Config) api.Errno { return api.OK }
 
 // Open tells whether a connection is open (P11).
-func (f *Foreman) Open(conn int) bool { return false }
+func (f *Foreman) Open(conn int) bool {
+	return isConnection(conn) && f.connections[conn].open
+}
 
 // Sent is what was sent over a connection (P11).
-func (f *Foreman) Sent(conn int) string { return "" }
+func (f *Foreman) Sent(conn int) string {
+	if !isConnection(conn) {
+		return ""
+	}
+	return string(f.connections[conn].sent)
+}
 
 // Backlog lists the keys that wait (P11).
-func (f *Foreman) Backlog() []api.Key { return nil }
+func (f *Foreman) Backlog() []api.Key {
+	var list []api.Key
+	for _, r := range f.requests {
+		if r.stage == waiting {
+			list = append(list, r.key)
+		}
+	}
+	return list
+}
 
 // Slot tells what a slot is (P11).
-func (f *Foreman) Slot(slot int) (api.Slot, api.Errno) { return api.Slot{}, api.OK }
+func (f *Foreman) Slot(slot int) (api.Slot, api.Errno) {
+	if !isSlot(slot) {
+		return api.Slot{}, api.ErrSlot
+	}
+	return f.slots[slot].slot, api.OK
+}
 
 // Job is what a slot works at (P11).
-func (f *Foreman) Job(slot int) (string, api.Errno) { return "", api.OK }
+func (f *Foreman) Job(slot int) (string, api.Errno) {
+	if !isSlot(slot) {
+		return "", api.ErrSlot
+	}
+	if f.slots[slot].slot.State != api.Busy {
+		return "", api.ErrState
+	}
+	return f.slots[slot].job, api.OK
+}
 
 // Time tells the time (P11).
-func (f *Foreman) Time() int { return 0 }
+func (f *Foreman) Time() int { return f.time }

@@ -48,6 +48,17 @@ func Decode(s string) ([]api.Record, int, api.Errno) {
 	return list, taken, api.OK
 }
 
+// FirstRequest reads the record at the beginning of what has come over a connection, and tells how many bytes
+// it is: 0 if it does not stand there whole yet. Over a connection fewer heads may come than are good, and the
+// others are refused without waiting for what would follow them.
+func FirstRequest(s string) (api.Record, int, api.Errno) {
+	h, there := readHead(s)
+	if there && !h.mayCome() {
+		return api.Record{}, 0, api.ErrRecord
+	}
+	return first(s)
+}
+
 // first reads the record at the beginning of s, and tells how many bytes it is, padding and all.
 // They are 0 if it does not stand there whole: no record is so short, so the two can't be confused.
 func first(s string) (api.Record, int, api.Errno) {
@@ -87,6 +98,19 @@ func (h head) bad() bool {
 		return true
 	}
 	return !allowed(h.kind, h.id, h.length)
+}
+
+// mayCome tells whether a request may have such a record, going by its Kind and its length alone.
+func (h head) mayCome() bool {
+	switch h.kind {
+	case api.Begin:
+		return h.length == 1
+	case api.Abort:
+		return h.length == 0
+	case api.In:
+		return true
+	}
+	return false
 }
 
 // allowed tells whether a record may have this kind, this Id and so many bytes of Content.

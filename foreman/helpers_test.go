@@ -1,0 +1,96 @@
+package foreman_test
+
+import (
+	"slices"
+	"strings"
+	"testing"
+
+	"foreman/api"
+	"foreman/foreman"
+)
+
+func newForeman(t *testing.T, c api.Config) *foreman.Foreman {
+	t.Helper()
+	f, e := foreman.New(c)
+	if f == nil || e != api.OK {
+		t.Fatalf("P5: New(%+v) = %v, %d, want a foreman, OK", c, f, e)
+	}
+	return f
+}
+
+func checkErrno(t *testing.T, what string, got, want api.Errno) {
+	t.Helper()
+	if got != want {
+		t.Fatalf("%s = %d, want %d", what, got, want)
+	}
+}
+
+func connect(t *testing.T, f *foreman.Foreman, conn int) {
+	t.Helper()
+	checkErrno(t, "P5: Connect", f.Connect(conn), api.OK)
+}
+
+// connected: a foreman with these settings and all connections open.
+func connected(t *testing.T, c api.Config) *foreman.Foreman {
+	t.Helper()
+	f := newForeman(t, c)
+	for conn := range api.MaxConns {
+		connect(t, f, conn)
+	}
+	return f
+}
+
+func feed(t *testing.T, f *foreman.Foreman, conn int, parts ...string) {
+	t.Helper()
+	checkErrno(t, "P6: Feed", f.Feed(conn, strings.Join(parts, "")), api.OK)
+}
+
+func checkOpen(t *testing.T, f *foreman.Foreman, conn int, want bool) {
+	t.Helper()
+	if f.Open(conn) != want {
+		t.Fatalf("P11: Open(%d) = %v, want %v", conn, !want, want)
+	}
+}
+
+func checkSent(t *testing.T, f *foreman.Foreman, conn int, parts ...string) {
+	t.Helper()
+	want := strings.Join(parts, "")
+	if s := f.Sent(conn); s != want {
+		t.Fatalf("P11: Sent(%d) = %.150q, want %.150q", conn, s, want)
+	}
+}
+
+func checkWaits(t *testing.T, f *foreman.Foreman, want ...api.Key) {
+	t.Helper()
+	if l := f.Backlog(); !slices.Equal(l, want) {
+		t.Fatalf("P11: Backlog() = %v, want %v", l, want)
+	}
+}
+
+func checkSlot(t *testing.T, f *foreman.Foreman, slot int, want api.Slot) {
+	t.Helper()
+	if s, e := f.Slot(slot); s != want || e != api.OK {
+		t.Fatalf("P11: Slot(%d) = %+v, %d, want %+v, OK", slot, s, e, want)
+	}
+}
+
+// plain: a slot that has only just become what it is, with no key.
+func plain(state int) api.Slot { return api.Slot{State: state, Conn: -1} }
+
+func key(conn, id int) api.Key { return api.Key{Conn: conn, Id: id} }
+
+func begin(id int) string              { return written(api.Begin, id, "\x01", "") }
+func in(id int, content string) string { return written(api.In, id, content, "") }
+func abort(id int) string              { return written(api.Abort, id, "", "") }
+
+// asked: a whole request, with a body of up to MaxContent bytes.
+func asked(id int, body string) string {
+	if body == "" {
+		return begin(id) + in(id, "")
+	}
+	return begin(id) + in(id, body) + in(id, "")
+}
+
+func ended(id, status int) string {
+	return written(api.End, id, string([]byte{byte(status)}), "")
+}

@@ -1,0 +1,90 @@
+package foreman
+
+import "foreman/api"
+
+const noConn = -1 // the Conn of a slot without a key; its Id is 0
+
+// place: a slot as it is shown, and the body of the key that was leased to it last.
+type place struct {
+	slot api.Slot
+	job  string // as long as it is Busy, also if it has lost its key
+}
+
+func isSlot(slot int) bool { return within(slot, 0, api.MaxSlots-1) }
+
+// newPlace: one that has become Empty or Starting, and begins anew.
+func newPlace(state int) place {
+	return place{slot: api.Slot{State: state, Conn: noConn}}
+}
+
+func (p *place) forgetKey() {
+	p.slot.Conn = noConn
+	p.slot.Id = 0
+}
+
+func (f *Foreman) kill(slot int) {
+	p := &f.slots[slot]
+	p.slot.State = api.Dying
+	p.slot.Since = 0
+	p.job = ""
+	p.forgetKey()
+}
+
+func (f *Foreman) slotOf(key api.Key) (int, bool) {
+	for i, p := range f.slots {
+		if p.slot.Conn == key.Conn && p.slot.Id == key.Id {
+			return i, true
+		}
+	}
+	return 0, false
+}
+
+// settle starts the workers that are missing, and leases what waits.
+func (f *Foreman) settle() {
+	if !f.settings.Dynamic {
+		f.startMissing()
+	}
+	f.leaseWaiting()
+}
+
+func (f *Foreman) startMissing() {
+	used := f.used()
+	for i := range f.slots {
+		if used < f.settings.Children && f.slots[i].slot.State == api.Empty {
+			f.slots[i] = newPlace(api.Starting)
+			used++
+		}
+	}
+}
+
+func (f *Foreman) used() int {
+	count := 0
+	for _, p := range f.slots {
+		if p.slot.State != api.Empty {
+			count++
+		}
+	}
+	return count
+}
+
+func (f *Foreman) leaseWaiting() {
+	for i := range f.slots {
+		at, waits := f.firstWaiting()
+		if waits && f.slots[i].slot.State == api.Idle {
+			f.lease(at, i)
+		}
+	}
+}
+
+func (f *Foreman) lease(at, slot int) {
+	r := &f.requests[at]
+	p := &f.slots[slot]
+	p.slot.State = api.Busy
+	p.slot.Since = f.time
+	p.slot.Served++
+	p.slot.Conn = r.key.Conn
+	p.slot.Id = r.key.Id
+	p.job = r.body
+	r.stage = leased
+	r.body = ""
+}
