@@ -38,3 +38,15 @@ func (f *Foreman) send(conn int, r api.Record) {
 	bytes, _ := record.Encode(r)
 	f.connections[conn].sent = append(f.connections[conn].sent, bytes...)
 }
+
+// sendOut sends nothing at all of an empty s.
+func (f *Foreman) sendOut(key api.Key, s string) {
+	for s != "" {
+		size := len(s)
+		if size > api.MaxContent {
+			size = api.MaxContent
+		}
+		f.send(key.Conn, api.Record{Kind: api.Out, Id: key.Id, Content: s[:size]})
+		s = s[size:]
+	}
+}

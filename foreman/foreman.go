@@ -68,16 +68,63 @@ func (f *Foreman) Feed(conn int, s string) api.Errno {
 }
 
 // Spawned tells that a worker has started (P8).
-func (f *Foreman) Spawned(slot int) api.Errno { return api.OK }
+func (f *Foreman) Spawned(slot int) api.Errno {
+	err := f.checkState(slot, api.Starting)
+	if err != api.OK {
+		return err
+	}
+	if f.slots[slot].slot.Old {
+		f.kill(slot)
+	} else {
+		f.slots[slot].becomes(api.Idle)
+	}
+	f.settle()
+	return api.OK
+}
 
 // Output tells what a worker has put out (P8).
-func (f *Foreman) Output(slot int, s string) api.Errno { return api.OK }
+func (f *Foreman) Output(slot int, s string) api.Errno {
+	err := f.checkState(slot, api.Busy)
+	if err != api.OK {
+		return err
+	}
+	key, has := f.slots[slot].key()
+	if has {
+		f.sendOut(key, s)
+	}
+	f.settle()
+	return api.OK
+}
 
 // Finished tells that a worker has served its request (P8).
-func (f *Foreman) Finished(slot int) api.Errno { return api.OK }
+func (f *Foreman) Finished(slot int) api.Errno {
+	err := f.checkState(slot, api.Busy)
+	if err != api.OK {
+		return err
+	}
+	f.endKeyOf(slot, api.Done)
+	if f.mustGo(slot) {
+		f.kill(slot)
+	} else {
+		f.slots[slot].becomes(api.Idle)
+	}
+	f.settle()
+	return api.OK
+}
 
 // Died tells that a worker is no more (P8).
-func (f *Foreman) Died(slot int) api.Errno { return api.OK }
+func (f *Foreman) Died(slot int) api.Errno {
+	if !isSlot(slot) {
+		return api.ErrSlot
+	}
+	if f.slots[slot].slot.State == api.Empty {
+		return api.ErrState
+	}
+	f.endKeyOf(slot, api.Died)
+	f.slots[slot] = newPlace(api.Empty)
+	f.settle()
+	return api.OK
+}
 
 // Tick tells that time has gone on (P9).
 func (f *Foreman) Tick() {}
@@ -119,11 +166,9 @@ func (f *Foreman) Slot(slot int) (api.Slot, api.Errno) {
 
 // Job is what a slot works at (P11).
 func (f *Foreman) Job(slot int) (string, api.Errno) {
-	if !isSlot(slot) {
-		return "", api.ErrSlot
-	}
-	if f.slots[slot].slot.State != api.Busy {
-		return "", api.ErrState
+	err := f.checkState(slot, api.Busy)
+	if err != api.OK {
+		return "", err
 	}
 	return f.slots[slot].job, api.OK
 }

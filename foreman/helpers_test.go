@@ -1,6 +1,7 @@
 package foreman_test
 
 import (
+	"fmt"
 	"slices"
 	"strings"
 	"testing"
@@ -93,4 +94,99 @@ func asked(id int, body string) string {
 
 func ended(id, status int) string {
 	return written(api.End, id, string([]byte{byte(status)}), "")
+}
+
+func out(id int, content string) string { return written(api.Out, id, content, "") }
+
+func spawned(t *testing.T, f *foreman.Foreman, slots ...int) {
+	t.Helper()
+	for _, slot := range slots {
+		checkErrno(t, "P8: Spawned", f.Spawned(slot), api.OK)
+	}
+}
+
+func output(t *testing.T, f *foreman.Foreman, slot int, s string) {
+	t.Helper()
+	checkErrno(t, "P8: Output", f.Output(slot, s), api.OK)
+}
+
+func finished(t *testing.T, f *foreman.Foreman, slots ...int) {
+	t.Helper()
+	for _, slot := range slots {
+		checkErrno(t, "P8: Finished", f.Finished(slot), api.OK)
+	}
+}
+
+func died(t *testing.T, f *foreman.Foreman, slots ...int) {
+	t.Helper()
+	for _, slot := range slots {
+		checkErrno(t, "P8: Died", f.Died(slot), api.OK)
+	}
+}
+
+func hangup(t *testing.T, f *foreman.Foreman, conn int) {
+	t.Helper()
+	checkErrno(t, "P5: Hangup", f.Hangup(conn), api.OK)
+}
+
+// staffed: a foreman with all connections open, and with workers that have started in these slots.
+func staffed(t *testing.T, c api.Config, slots ...int) *foreman.Foreman {
+	t.Helper()
+	f := connected(t, c)
+	spawned(t, f, slots...)
+	return f
+}
+
+// busy: a slot that has this key.
+func busy(served, conn, id int) api.Slot {
+	return api.Slot{State: api.Busy, Served: served, Conn: conn, Id: id}
+}
+
+// keyless: a slot that has served, but has no key.
+func keyless(state, served int) api.Slot {
+	return api.Slot{State: state, Served: served, Conn: -1}
+}
+
+func checkJob(t *testing.T, f *foreman.Foreman, slot int, want string) {
+	t.Helper()
+	if s, e := f.Job(slot); s != want || e != api.OK {
+		t.Fatalf("P11: Job(%d) = %.60q, %d, want %.60q, OK", slot, s, e, want)
+	}
+}
+
+func checkNoJob(t *testing.T, f *foreman.Foreman, slot int) {
+	t.Helper()
+	if s, e := f.Job(slot); s != "" || e != api.ErrState {
+		t.Fatalf("P11, P1: Job(%d) = %.60q, %d, want nothing, ErrState", slot, s, e)
+	}
+}
+
+// view: all that a foreman shows.
+type view struct {
+	open    [api.MaxConns]bool
+	sent    [api.MaxConns]string
+	backlog string
+	slots   [api.MaxSlots]api.Slot
+	jobs    [api.MaxSlots]string
+	time    int
+}
+
+func viewOf(f *foreman.Foreman) view {
+	v := view{backlog: fmt.Sprint(f.Backlog()), time: f.Time()}
+	for conn := range api.MaxConns {
+		v.open[conn] = f.Open(conn)
+		v.sent[conn] = f.Sent(conn)
+	}
+	for slot := range api.MaxSlots {
+		v.slots[slot], _ = f.Slot(slot)
+		v.jobs[slot], _ = f.Job(slot)
+	}
+	return v
+}
+
+func checkView(t *testing.T, what string, f *foreman.Foreman, want view) {
+	t.Helper()
+	if got := viewOf(f); got != want {
+		t.Fatalf("%s: it shows %+.80v, want %+.80v", what, got, want)
+	}
 }

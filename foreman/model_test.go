@@ -18,13 +18,20 @@ type model struct {
 	open    [api.MaxConns]bool
 	came    [api.MaxConns]string
 	sent    [api.MaxConns]string
-	bodies  map[api.Key]int // how long they are, of all keys
+	bodies  map[api.Key]string // of all keys
 	backlog []api.Key
+	slots   [api.MaxSlots]api.Slot
+	jobs    [api.MaxSlots]string
 	seen    map[string]int // how often what came about, so that no run passes by having tried nothing
 }
 
 func newModel(c api.Config) *model {
-	return &model{c: c, bodies: map[api.Key]int{}, seen: map[string]int{}}
+	m := &model{c: c, bodies: map[api.Key]string{}, seen: map[string]int{}}
+	for slot := range m.slots {
+		m.slots[slot] = plain(api.Empty)
+	}
+	m.settle()
+	return m
 }
 
 func (m *model) connect(conn int) api.Errno {
@@ -45,13 +52,9 @@ func (m *model) hangup(conn int) api.Errno {
 	case !m.open[conn]:
 		return api.ErrClosed
 	}
-	m.open[conn] = false
-	ofIt := func(k api.Key) bool { return k.Conn == conn }
-	m.backlog = slices.DeleteFunc(m.backlog, ofIt)
-	for k := range m.bodies {
-		if ofIt(k) {
-			delete(m.bodies, k)
-		}
+	m.open[conn] = false // what has come is forgotten when it is opened again
+	for _, id := range m.keysOf(conn) {
+		m.forget(key(conn, id))
 	}
 	return api.OK
 }
@@ -92,8 +95,8 @@ func (m *model) look(conn int) {
 }
 
 func (m *model) take(k api.Key, kind int, content string) {
-	length, isKey := m.bodies[k]
-	collecting := isKey && !slices.Contains(m.backlog, k)
+	body, isKey := m.bodies[k]
+	collecting := isKey && !slices.Contains(m.backlog, k) && m.slotWith(k) < 0
 	switch {
 	case kind == 1 && isKey:
 		m.seen["begun again"]++
@@ -104,22 +107,26 @@ func (m *model) take(k api.Key, kind int, content string) {
 		m.end(k, api.Overloaded)
 		m.seen["too many keys"]++
 	case kind == 1:
-		m.bodies[k] = 0
-	case kind == 5 && collecting && length+len(content) > 500:
+		m.bodies[k] = ""
+	case kind == 5 && collecting && len(body+content) > 500:
 		m.end(k, api.TooBig)
 	case kind == 5 && collecting && content != "":
-		m.bodies[k] += len(content)
-	case kind == 5 && collecting && len(m.backlog) < m.c.Backlog:
+		m.bodies[k] += content
+	case kind == 5 && collecting && (len(m.backlog) < m.c.Backlog || m.first(api.Idle) >= 0):
 		m.backlog = append(m.backlog, k)
 		m.seen["waits"]++
 	case kind == 5 && collecting:
 		m.end(k, api.Overloaded)
 		m.seen["backlog full"]++
 	case kind == 2 && isKey:
+		if slot := m.slotWith(k); slot >= 0 {
+			m.kill(slot)
+		}
 		m.end(k, api.Aborted)
 	default:
 		m.seen["nothing"]++
 	}
+	m.settle()
 }
 
 // keysOf lists their Ids in order, since that of a map would make each run another.
@@ -137,8 +144,7 @@ func (m *model) keysOf(conn int) []int {
 func (m *model) end(k api.Key, status int) {
 	m.seen[fmt.Sprintf("status %d", status)]++
 	m.sent[k.Conn] += ended(k.Id, status)
-	delete(m.bodies, k)
-	m.backlog = slices.DeleteFunc(m.backlog, func(other api.Key) bool { return other == k })
+	m.forget(k)
 }
 
 func (m *model) check(t *testing.T, f *foreman.Foreman) {
@@ -149,11 +155,12 @@ func (m *model) check(t *testing.T, f *foreman.Foreman) {
 	}
 	checkWaits(t, f, m.backlog...)
 	for slot := range api.MaxSlots {
-		state := api.Empty
-		if slot < m.c.Children {
-			state = api.Starting
+		checkSlot(t, f, slot, m.slots[slot])
+		if m.slots[slot].State == api.Busy {
+			checkJob(t, f, slot, m.jobs[slot])
+		} else {
+			checkNoJob(t, f, slot)
 		}
-		checkSlot(t, f, slot, plain(state))
 	}
 }
 
@@ -167,8 +174,10 @@ func anyRecord(random *rand.Rand, keys []int) string {
 		free++
 	}
 	padding := strings.Repeat("\x01", max(0, random.Intn(12)-4))
-	content := strings.Repeat("c", random.Intn(201))
+	content := strings.Repeat(string(rune('a'+random.Intn(26))), random.Intn(201))
 	switch n := random.Intn(400); {
+	case n < 50:
+		return written(api.Begin, free, "\x01", padding) + in(free, content) + written(api.In, free, "", padding)
 	case n < 120:
 		return written(api.Begin, free, "\x01", padding)
 	case n < 130:
@@ -197,40 +206,63 @@ type run struct {
 
 func (r *run) step(t *testing.T, random *rand.Rand) {
 	conn := random.Intn(api.MaxConns+2) - 1
-	real := conn >= 0 && conn < api.MaxConns
 	switch n := random.Intn(100); {
-	case n < 20:
+	case n < 40:
+		r.work(t, random)
+	case n < 50:
 		checkErrno(t, "P5: Connect", r.f.Connect(conn), r.m.connect(conn))
-	case n < 22:
+	case n < 51:
 		checkErrno(t, "P5: Hangup", r.f.Hangup(conn), r.m.hangup(conn))
 	default:
-		s := anyRecord(random, r.m.keysOf(conn))
-		if real {
-			s = r.left[conn] + s
-		}
-		now := random.Intn(len(s) + 1)
-		if random.Intn(2) == 0 {
-			now = len(s)
-		}
-		checkErrno(t, "P6: Feed", r.f.Feed(conn, s[:now]), r.m.feed(conn, s[:now]))
-		if real {
-			r.left[conn] = s[now:]
-		}
+		r.feed(t, random, conn)
 	}
-	if real && !r.m.open[conn] {
-		r.left[conn] = ""
+	for conn, open := range r.m.open {
+		if !open {
+			r.left[conn] = ""
+		}
 	}
 	r.m.check(t, r.f)
+}
+
+func (r *run) feed(t *testing.T, random *rand.Rand, conn int) {
+	real := conn >= 0 && conn < api.MaxConns
+	s := anyRecord(random, r.m.keysOf(conn))
+	if real {
+		s = r.left[conn] + s
+	}
+	now := random.Intn(len(s) + 1)
+	if random.Intn(2) == 0 {
+		now = len(s)
+	}
+	checkErrno(t, "P6: Feed", r.f.Feed(conn, s[:now]), r.m.feed(conn, s[:now]))
+	if real {
+		r.left[conn] = s[now:]
+	}
+}
+
+func (r *run) work(t *testing.T, random *rand.Rand) {
+	slot := random.Intn(api.MaxSlots+2) - 1
+	switch n := random.Intn(100); {
+	case n < 35:
+		checkErrno(t, "P8: Spawned", r.f.Spawned(slot), r.m.spawned(slot))
+	case n < 55:
+		s := counted(max(0, random.Intn(650)-50))
+		checkErrno(t, "P8: Output", r.f.Output(slot, s), r.m.output(slot, s))
+	case n < 90:
+		checkErrno(t, "P8: Finished", r.f.Finished(slot), r.m.finished(slot))
+	default:
+		checkErrno(t, "P8: Died", r.f.Died(slot), r.m.died(slot))
+	}
 }
 
 func TestAgainstTheModel(t *testing.T) {
 	random := rand.New(rand.NewSource(2))
 	seen := map[string]int{}
-	for range 60 {
+	for range 100 {
 		// Two at a time: what one does is nothing to the other.
 		var two [2]run
 		for i := range two {
-			c := api.Config{Children: 1 + random.Intn(6), Backlog: random.Intn(14)}
+			c := api.Config{Children: 1 + random.Intn(6), MaxRequests: random.Intn(4), Backlog: random.Intn(10)}
 			two[i] = run{f: newForeman(t, c), m: newModel(c)}
 		}
 		for range 1000 {
@@ -242,7 +274,12 @@ func TestAgainstTheModel(t *testing.T) {
 			}
 		}
 	}
-	for _, what := range []string{"bad head", "begun again", "too many keys", "waits", "backlog full", "nothing", "status 2", "status 3", "status 4", "status 5"} {
+	for _, what := range []string{
+		"bad head", "begun again", "too many keys", "waits", "backlog full", "nothing",
+		"status 0", "status 1", "status 2", "status 3", "status 4", "status 5",
+		"leased", "leased later", "killed", "served enough", "another state", "no slot",
+		"output", "output without a key", "finished", "finished without a key", "died", "died without a key",
+	} {
 		if seen[what] < 20 {
 			t.Errorf("%q came about %d times only: %v", what, seen[what], seen)
 		}

@@ -17,17 +17,45 @@ func newPlace(state int) place {
 	return place{slot: api.Slot{State: state, Conn: noConn}}
 }
 
+func (p *place) key() (api.Key, bool) {
+	return api.Key{Conn: p.slot.Conn, Id: p.slot.Id}, p.slot.Conn != noConn
+}
+
 func (p *place) forgetKey() {
 	p.slot.Conn = noConn
 	p.slot.Id = 0
 }
 
-func (f *Foreman) kill(slot int) {
-	p := &f.slots[slot]
-	p.slot.State = api.Dying
+// becomes: one of the states in which a slot works at nothing. Old and Served stay.
+func (p *place) becomes(state int) {
+	p.slot.State = state
 	p.slot.Since = 0
 	p.job = ""
 	p.forgetKey()
+}
+
+func (f *Foreman) checkState(slot, state int) api.Errno {
+	if !isSlot(slot) {
+		return api.ErrSlot
+	}
+	if f.slots[slot].slot.State != state {
+		return api.ErrState
+	}
+	return api.OK
+}
+
+func (f *Foreman) kill(slot int) { f.slots[slot].becomes(api.Dying) }
+
+func (f *Foreman) endKeyOf(slot, status int) {
+	key, has := f.slots[slot].key()
+	if has {
+		f.end(key, status)
+	}
+}
+
+func (f *Foreman) mustGo(slot int) bool {
+	s := f.slots[slot].slot
+	return s.Old || f.settings.MaxRequests > 0 && s.Served >= f.settings.MaxRequests
 }
 
 func (f *Foreman) slotOf(key api.Key) (int, bool) {
