@@ -7,7 +7,7 @@ import (
 	"foreman/api"
 )
 
-// The document's examples that speak of workers.
+// The document's examples that speak of workers, of the time and of settings that are read anew.
 
 func TestExampleOfOneRequest(t *testing.T) {
 	f := newForeman(t, api.Config{Children: 2})
@@ -66,4 +66,28 @@ func TestExampleOfHangup(t *testing.T) {
 	finished(t, f, 0)
 	checkSlot(t, f, 0, keyless(api.Idle, 1))
 	checkSent(t, f, 0, "")
+}
+
+func TestExampleOfTimeout3(t *testing.T) {
+	f := staffed(t, api.Config{Children: 1, Timeout: 3}, 0)
+	ticks(f, 5)
+	feed(t, f, 0, asked(1, "x"))
+	checkSlot(t, f, 0, since(5, busy(1, 0, 1)))
+	ticks(f, 2)
+	checkSlot(t, f, 0, since(5, busy(1, 0, 1)))
+	checkSent(t, f, 0, "")
+	f.Tick()
+	checkTime(t, f, 8)
+	checkSent(t, f, 0, "\x01\x03\x00\x01\x00\x01\x00\x00\x06")
+	checkSlot(t, f, 0, keyless(api.Dying, 1))
+}
+
+func TestExampleOfReload(t *testing.T) {
+	f := staffed(t, api.Config{Children: 2}, 0, 1)
+	feed(t, f, 0, asked(1, "x"))
+	reload(t, f, api.Config{Children: 2})
+	checkSlot(t, f, 1, plain(api.Dying))
+	checkSlot(t, f, 0, old(busy(1, 0, 1)))
+	finished(t, f, 0)
+	checkSlot(t, f, 0, old(keyless(api.Dying, 1)))
 }

@@ -127,10 +127,27 @@ func (f *Foreman) Died(slot int) api.Errno {
 }
 
 // Tick tells that time has gone on (P9).
-func (f *Foreman) Tick() {}
+func (f *Foreman) Tick() {
+	f.time++
+	if f.settings.Timeout > 0 {
+		f.killLate()
+	}
+	if f.settings.Dynamic {
+		f.keepSpares()
+	}
+	f.settle()
+}
 
 // Reload takes other settings (P10).
-func (f *Foreman) Reload(c api.Config) api.Errno { return api.OK }
+func (f *Foreman) Reload(c api.Config) api.Errno {
+	if !mayBe(c) {
+		return api.ErrConfig
+	}
+	f.settings = c
+	f.retireAll()
+	f.settle()
+	return api.OK
+}
 
 // Open tells whether a connection is open (P11).
 func (f *Foreman) Open(conn int) bool {

@@ -129,6 +129,24 @@ func hangup(t *testing.T, f *foreman.Foreman, conn int) {
 	checkErrno(t, "P5: Hangup", f.Hangup(conn), api.OK)
 }
 
+func ticks(f *foreman.Foreman, count int) {
+	for range count {
+		f.Tick()
+	}
+}
+
+func reload(t *testing.T, f *foreman.Foreman, c api.Config) {
+	t.Helper()
+	checkErrno(t, "P10: Reload", f.Reload(c), api.OK)
+}
+
+func checkTime(t *testing.T, f *foreman.Foreman, want int) {
+	t.Helper()
+	if f.Time() != want {
+		t.Fatalf("P11: Time() = %d, want %d", f.Time(), want)
+	}
+}
+
 // staffed: a foreman with all connections open, and with workers that have started in these slots.
 func staffed(t *testing.T, c api.Config, slots ...int) *foreman.Foreman {
 	t.Helper()
@@ -145,6 +163,38 @@ func busy(served, conn, id int) api.Slot {
 // keyless: a slot that has served, but has no key.
 func keyless(state, served int) api.Slot {
 	return api.Slot{State: state, Served: served, Conn: -1}
+}
+
+func old(s api.Slot) api.Slot {
+	s.Old = true
+	return s
+}
+
+// since: of a Busy slot, the time of its lease.
+func since(time int, s api.Slot) api.Slot {
+	s.Since = time
+	return s
+}
+
+// shapeOf: each slot as a letter, that of its state or, if it is Old, the small one.
+func shapeOf(f *foreman.Foreman) string {
+	shape := ""
+	for slot := range api.MaxSlots {
+		s, _ := f.Slot(slot)
+		letters := ".SIBD"
+		if s.Old {
+			letters = "_sibd"
+		}
+		shape += letters[s.State : s.State+1]
+	}
+	return shape
+}
+
+func checkShape(t *testing.T, f *foreman.Foreman, want string) {
+	t.Helper()
+	if shape := shapeOf(f); shape != want {
+		t.Fatalf("P8 to P10: at the time %d the slots are %s, want %s", f.Time(), shape, want)
+	}
 }
 
 func checkJob(t *testing.T, f *foreman.Foreman, slot int, want string) {

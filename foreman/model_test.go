@@ -15,6 +15,7 @@ import (
 // as they come.
 type model struct {
 	c       api.Config
+	time    int
 	open    [api.MaxConns]bool
 	came    [api.MaxConns]string
 	sent    [api.MaxConns]string
@@ -162,6 +163,7 @@ func (m *model) check(t *testing.T, f *foreman.Foreman) {
 			checkNoJob(t, f, slot)
 		}
 	}
+	checkTime(t, f, m.time)
 }
 
 // anyRecord is mostly of one of these keys, or a Begin of none of them: else most would be nothing, or close.
@@ -176,15 +178,15 @@ func anyRecord(random *rand.Rand, keys []int) string {
 	padding := strings.Repeat("\x01", max(0, random.Intn(12)-4))
 	content := strings.Repeat(string(rune('a'+random.Intn(26))), random.Intn(201))
 	switch n := random.Intn(400); {
-	case n < 50:
+	case n < 90:
 		return written(api.Begin, free, "\x01", padding) + in(free, content) + written(api.In, free, "", padding)
-	case n < 120:
-		return written(api.Begin, free, "\x01", padding)
 	case n < 130:
+		return written(api.Begin, free, "\x01", padding)
+	case n < 140:
 		return written(api.Begin, free, string([]byte{byte(random.Intn(256))}), padding)
-	case n < 260:
+	case n < 310:
 		return written(api.In, id, content, padding)
-	case n < 340:
+	case n < 360:
 		return written(api.In, id, "", padding)
 	case n < 380:
 		return written(api.Abort, id, "", padding)
@@ -198,14 +200,19 @@ func anyRecord(random *rand.Rand, keys []int) string {
 }
 
 // run gives a foreman and its model the same calls, by a fixed seed. What comes over a connection is cut anyhow.
+// The requests come in waves: else there would hardly ever be too many workers.
 type run struct {
-	f    *foreman.Foreman
-	m    *model
-	left [api.MaxConns]string
+	f     *foreman.Foreman
+	m     *model
+	left  [api.MaxConns]string
+	quiet bool
 }
 
 func (r *run) step(t *testing.T, random *rand.Rand) {
-	conn := random.Intn(api.MaxConns+2) - 1
+	if random.Intn(40) == 0 {
+		r.quiet = !r.quiet
+	}
+	conn := oneOf(random, api.MaxConns)
 	switch n := random.Intn(100); {
 	case n < 40:
 		r.work(t, random)
@@ -213,6 +220,13 @@ func (r *run) step(t *testing.T, random *rand.Rand) {
 		checkErrno(t, "P5: Connect", r.f.Connect(conn), r.m.connect(conn))
 	case n < 51:
 		checkErrno(t, "P5: Hangup", r.f.Hangup(conn), r.m.hangup(conn))
+	case n < 61:
+		r.f.Tick()
+		r.m.tick()
+	case n < 62:
+		r.reload(t, random)
+	case r.quiet:
+		r.work(t, random)
 	default:
 		r.feed(t, random, conn)
 	}
@@ -224,9 +238,17 @@ func (r *run) step(t *testing.T, random *rand.Rand) {
 	r.m.check(t, r.f)
 }
 
+// oneOf so many, from 0 on; now and then there is none such.
+func oneOf(random *rand.Rand, count int) int {
+	if random.Intn(20) == 0 {
+		return []int{-1, count}[random.Intn(2)]
+	}
+	return random.Intn(count)
+}
+
 func (r *run) feed(t *testing.T, random *rand.Rand, conn int) {
 	real := conn >= 0 && conn < api.MaxConns
-	s := anyRecord(random, r.m.keysOf(conn))
+	s := anyRecord(random, r.m.keysOf(conn)) + anyRecord(random, r.m.keysOf(conn))
 	if real {
 		s = r.left[conn] + s
 	}
@@ -240,15 +262,36 @@ func (r *run) feed(t *testing.T, random *rand.Rand, conn int) {
 	}
 }
 
+func (r *run) reload(t *testing.T, random *rand.Rand) {
+	c := anySettings(random)
+	if random.Intn(3) == 0 {
+		c = anySettingsAtAll(random)
+	}
+	checkErrno(t, "P10: Reload", r.f.Reload(c), r.m.reload(c))
+}
+
+// work calls mostly what may be called of the slot that it has come upon: else most would be errors.
 func (r *run) work(t *testing.T, random *rand.Rand) {
-	slot := random.Intn(api.MaxSlots+2) - 1
-	switch n := random.Intn(100); {
-	case n < 35:
+	slot, n := oneOf(random, api.MaxSlots), random.Intn(100)
+	if slot >= 0 && slot < api.MaxSlots && n < 80 {
+		switch state := r.m.slots[slot].State; {
+		case state == api.Starting && n < 76:
+			n = 0
+		case state == api.Busy && r.quiet:
+			n = 45
+		case state == api.Busy:
+			n = 20 + n*30/80
+		case state == api.Dying:
+			n = 99
+		}
+	}
+	switch {
+	case n < 20:
 		checkErrno(t, "P8: Spawned", r.f.Spawned(slot), r.m.spawned(slot))
-	case n < 55:
+	case n < 45:
 		s := counted(max(0, random.Intn(650)-50))
 		checkErrno(t, "P8: Output", r.f.Output(slot, s), r.m.output(slot, s))
-	case n < 90:
+	case n < 95:
 		checkErrno(t, "P8: Finished", r.f.Finished(slot), r.m.finished(slot))
 	default:
 		checkErrno(t, "P8: Died", r.f.Died(slot), r.m.died(slot))
@@ -258,11 +301,11 @@ func (r *run) work(t *testing.T, random *rand.Rand) {
 func TestAgainstTheModel(t *testing.T) {
 	random := rand.New(rand.NewSource(2))
 	seen := map[string]int{}
-	for range 100 {
+	for range 150 {
 		// Two at a time: what one does is nothing to the other.
 		var two [2]run
 		for i := range two {
-			c := api.Config{Children: 1 + random.Intn(6), MaxRequests: random.Intn(4), Backlog: random.Intn(10)}
+			c := anySettings(random)
 			two[i] = run{f: newForeman(t, c), m: newModel(c)}
 		}
 		for range 1000 {
@@ -276,9 +319,19 @@ func TestAgainstTheModel(t *testing.T) {
 	}
 	for _, what := range []string{
 		"bad head", "begun again", "too many keys", "waits", "backlog full", "nothing",
-		"status 0", "status 1", "status 2", "status 3", "status 4", "status 5",
+		"status 0", "status 1", "status 2", "status 3", "status 4", "status 5", "status 6",
 		"leased", "leased later", "killed", "served enough", "another state", "no slot",
 		"output", "output without a key", "finished", "finished without a key", "died", "died without a key",
+		"spawned", "late", "late without a key", "several late", "later than late",
+		"spawned of an Old one", "output of an Old one", "finished of an Old one", "died of an Old one", "late of an Old one",
+		"spare against MinSpare: -1", "spare against MinSpare: +0", "spare against MinSpare: +1",
+		"idle against MaxSpare: -1", "idle against MaxSpare: +0", "idle against MaxSpare: +1",
+		"not Empty against Children, too few spare: -1", "not Empty against Children, too few spare: +0",
+		"not Empty against Children, too few spare: +1",
+		"a spare one started", "a spare one killed", "a spare one started beside an Old one",
+		"refused settings", "from Dynamic false to false", "from Dynamic false to true", "from Dynamic true to false",
+		"from Dynamic true to true", "more wait than Backlog says", "more than Children",
+		"reloaded in state 0", "reloaded in state 1", "reloaded in state 2", "reloaded in state 3", "reloaded in state 4",
 	} {
 		if seen[what] < 20 {
 			t.Errorf("%q came about %d times only: %v", what, seen[what], seen)

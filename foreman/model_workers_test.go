@@ -27,13 +27,13 @@ func (m *model) notEmpty() int {
 }
 
 func (m *model) settle() {
-	for m.notEmpty() < m.c.Children {
+	for !m.c.Dynamic && m.notEmpty() < m.c.Children {
 		m.slots[m.first(api.Empty)] = plain(api.Starting)
 	}
 	for len(m.backlog) > 0 && m.first(api.Idle) >= 0 {
 		slot, k := m.first(api.Idle), m.backlog[0]
 		m.backlog = m.backlog[1:]
-		m.slots[slot] = busy(m.slots[slot].Served+1, k.Conn, k.Id)
+		m.slots[slot] = since(m.time, busy(m.slots[slot].Served+1, k.Conn, k.Id))
 		m.jobs[slot] = m.bodies[k]
 		m.seen["leased"]++
 	}
@@ -41,7 +41,8 @@ func (m *model) settle() {
 
 func (m *model) kill(slot int) {
 	m.seen["killed"]++
-	m.slots[slot] = keyless(api.Dying, m.slots[slot].Served)
+	s := m.slots[slot]
+	m.slots[slot] = api.Slot{State: api.Dying, Old: s.Old, Served: s.Served, Conn: -1}
 }
 
 // forget: the key is no more.
@@ -69,6 +70,9 @@ func (m *model) at(slot int, states ...int) api.Errno {
 // keyAt counts how often this was asked of a slot with a key, and of one without.
 func (m *model) keyAt(slot int, what string) (api.Key, bool) {
 	s := m.slots[slot]
+	if s.Old {
+		m.seen[what+" of an Old one"]++
+	}
 	if s.Conn < 0 {
 		what += " without a key"
 	}
@@ -80,11 +84,17 @@ func (m *model) spawned(slot int) api.Errno {
 	if e := m.at(slot, api.Starting); e != api.OK {
 		return e
 	}
-	if len(m.backlog) > 0 {
+	if m.slots[slot].Old {
+		m.seen["spawned of an Old one"]++
+		m.kill(slot)
+	} else {
+		m.seen["spawned"]++
+		m.slots[slot] = plain(api.Idle)
+	}
+	m.settle()
+	if m.slots[slot].State == api.Busy {
 		m.seen["leased later"]++
 	}
-	m.slots[slot] = plain(api.Idle)
-	m.settle()
 	return api.OK
 }
 
@@ -107,10 +117,13 @@ func (m *model) finished(slot int) api.Errno {
 		m.end(k, api.Done)
 	}
 	served := m.slots[slot].Served
-	if m.c.MaxRequests > 0 && served >= m.c.MaxRequests {
+	switch {
+	case m.slots[slot].Old:
+		m.kill(slot)
+	case m.c.MaxRequests > 0 && served >= m.c.MaxRequests:
 		m.seen["served enough"]++
 		m.kill(slot)
-	} else {
+	default:
 		m.slots[slot] = keyless(api.Idle, served)
 	}
 	m.settle()

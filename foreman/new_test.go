@@ -8,63 +8,77 @@ import (
 	"foreman/foreman"
 )
 
-func checkSettings(t *testing.T, c api.Config, may bool) {
-	t.Helper()
-	f, e := foreman.New(c)
-	if may && (f == nil || e != api.OK) {
-		t.Fatalf("P5: New(%+v) = %d, want OK", c, e)
-	}
-	if !may && (f != nil || e != api.ErrConfig) {
-		t.Fatalf("P5, P1: New(%+v) = %d, want nil, ErrConfig", c, e)
-	}
+// setting: settings, and whether there may be such.
+type setting struct {
+	c   api.Config
+	may bool
 }
 
-func TestNewSettingsAtTheirEdges(t *testing.T) {
-	good := api.Config{Children: 3, MaxRequests: 5, Timeout: 5, Backlog: 5}
+func eachSettings() []setting {
+	list := settingsAtTheirEdges()
+	list = append(list, settingsOfSpares()...)
+	return append(list, []setting{
+		{api.Config{}, false},
+		{api.Config{Dynamic: true}, false},
+		{api.Config{Children: -1, Dynamic: true, MinSpare: -1, MaxSpare: -1, MaxRequests: -1, Timeout: -1, Backlog: -1}, false},
+		// Spares that would do for these Children, but there may be no such Children.
+		{api.Config{Children: api.MaxSlots + 1, Dynamic: true, MinSpare: 1, MaxSpare: 1}, false},
+	}...)
+}
+
+func settingsAtTheirEdges() []setting {
+	var list []setting
+	c := api.Config{Children: 3, MaxRequests: 5, Timeout: 5, Backlog: 5}
 	for _, edge := range []struct {
 		n        *int
 		greatest int
 		least    int
 	}{
-		{&good.Children, api.MaxSlots, 1},
-		{&good.MaxRequests, api.MaxCount, 0},
-		{&good.Timeout, api.MaxCount, 0},
-		{&good.Backlog, api.MaxBacklog, 0},
+		{&c.Children, api.MaxSlots, 1},
+		{&c.MaxRequests, api.MaxCount, 0},
+		{&c.Timeout, api.MaxCount, 0},
+		{&c.Backlog, api.MaxBacklog, 0},
 	} {
 		before := *edge.n
 		for _, n := range []int{edge.least, edge.least + 1, edge.greatest - 1, edge.greatest} {
 			*edge.n = n
-			checkSettings(t, good, true)
+			list = append(list, setting{c, true})
 		}
 		for _, n := range []int{math.MinInt, -1000, edge.least - 1, edge.greatest + 1, 1 << 40, math.MaxInt} {
 			*edge.n = n
-			checkSettings(t, good, false)
+			list = append(list, setting{c, false})
 		}
 		*edge.n = before
-		checkSettings(t, good, true)
 	}
+	return list
 }
 
-func TestNewSpares(t *testing.T) {
+func settingsOfSpares() []setting {
+	var list []setting
 	numbers := []int{math.MinInt, -1, 0, 1, 2, 3, 4, 5, 6, 7, 1001, math.MaxInt}
 	for children := 1; children <= api.MaxSlots; children++ {
 		for _, least := range numbers {
 			for _, most := range numbers {
 				c := api.Config{Children: children, MinSpare: least, MaxSpare: most}
-				checkSettings(t, c, true)
+				list = append(list, setting{c, true})
 				c.Dynamic = true
-				checkSettings(t, c, 1 <= least && least <= most && most <= children)
+				list = append(list, setting{c, 1 <= least && least <= most && most <= children})
 			}
 		}
 	}
+	return list
 }
 
-func TestNewRefusesAllAtOnce(t *testing.T) {
-	checkSettings(t, api.Config{}, false)
-	checkSettings(t, api.Config{Dynamic: true}, false)
-	checkSettings(t, api.Config{Children: -1, Dynamic: true, MinSpare: -1, MaxSpare: -1, MaxRequests: -1, Timeout: -1, Backlog: -1}, false)
-	// Spares that would do for these Children, but there may be no such Children.
-	checkSettings(t, api.Config{Children: api.MaxSlots + 1, Dynamic: true, MinSpare: 1, MaxSpare: 1}, false)
+func TestNewWithEachSettings(t *testing.T) {
+	for _, s := range eachSettings() {
+		f, e := foreman.New(s.c)
+		if s.may && (f == nil || e != api.OK) {
+			t.Fatalf("P5: New(%+v) = %d, want OK", s.c, e)
+		}
+		if !s.may && (f != nil || e != api.ErrConfig) {
+			t.Fatalf("P5, P1: New(%+v) = %d, want nil, ErrConfig", s.c, e)
+		}
+	}
 }
 
 func TestNewStartsChildren(t *testing.T) {

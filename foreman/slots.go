@@ -77,18 +77,30 @@ func (f *Foreman) settle() {
 
 func (f *Foreman) startMissing() {
 	used := f.used()
+	for used < f.settings.Children {
+		f.startOne()
+		used++
+	}
+}
+
+func (f *Foreman) startOne() {
 	for i := range f.slots {
-		if used < f.settings.Children && f.slots[i].slot.State == api.Empty {
+		if f.slots[i].slot.State == api.Empty {
 			f.slots[i] = newPlace(api.Starting)
-			used++
+			return
 		}
 	}
 }
 
 func (f *Foreman) used() int {
+	empty := f.count(api.Empty)
+	return api.MaxSlots - empty
+}
+
+func (f *Foreman) count(state int) int {
 	count := 0
 	for _, p := range f.slots {
-		if p.slot.State != api.Empty {
+		if p.slot.State == state {
 			count++
 		}
 	}

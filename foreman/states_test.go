@@ -10,10 +10,15 @@ import (
 
 var noSlots = []int{math.MinInt, -1 << 32, -6, -1, api.MaxSlots, api.MaxSlots + 1, 1 << 32, math.MaxInt}
 
-// everyState: one slot in each state, Busy twice. Connection 1 is closed, the others are open.
 func everyState(t *testing.T) *foreman.Foreman {
 	t.Helper()
-	f := connected(t, api.Config{Children: 5, Backlog: 9})
+	return everyStateOf(t, api.Config{Children: 5, Backlog: 9})
+}
+
+// everyStateOf: one slot in each state, Busy twice. Connection 1 is closed, the others are open.
+func everyStateOf(t *testing.T, c api.Config) *foreman.Foreman {
+	t.Helper()
+	f := connected(t, c)
 	spawned(t, f, 2)
 	feed(t, f, 0, asked(1, "mine"))
 	spawned(t, f, 3)

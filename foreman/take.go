@@ -86,13 +86,9 @@ func (f *Foreman) enqueue(r request) {
 }
 
 func (f *Foreman) hasRoom() bool {
-	for _, p := range f.slots {
-		if p.slot.State == api.Idle {
-			return true
-		}
-	}
+	idle := f.count(api.Idle)
 	backlog := f.Backlog()
-	return len(backlog) < f.settings.Backlog
+	return idle > 0 || len(backlog) < f.settings.Backlog
 }
 
 func (f *Foreman) abort(key api.Key) {
