@@ -101,7 +101,8 @@ func shapes(letters string, longest int) []string {
 	return list
 }
 
-// TestTickOfEachShape: all settings of the spares, with all that the slots may be, till nothing more comes about.
+// TestTickOfEachShape: all settings of the spares, with every row of Busy, Idle and Dying slots, behind some Old ones
+// and before some that are Starting; four Ticks each.
 func TestTickOfEachShape(t *testing.T) {
 	for children := 1; children <= api.MaxSlots; children++ {
 		for most := 1; most <= children; most++ {
